@@ -1,0 +1,1 @@
+"""Callcoin: sums reckoned in one money and paid in pieces."""
