@@ -1,9 +1,11 @@
-"""What counts as a word, a name, figures, a number and an amount."""
+"""What counts as a word, a name, figures, a number, a day, a worth and an amount."""
 
 SMALL_LETTERS = "abcdefghijklmnopqrstuvwxyz"
 FIGURES = "0123456789"
 LONGEST_NAME = 8
 MOST_FIGURES = 16
+MOST_DAY = 9999
+MOST_WORTH = 1000000
 MOST_AMOUNT = 10 ** 15
 
 
@@ -29,12 +31,25 @@ def is_figures(text):
     return len(text) == 1 or text[0] != "0"
 
 
+def is_number(number):
+    """Whether it is a whole number."""
+    # Python counts True and False as 1 and 0; here they are no numbers.
+    return isinstance(number, int) and not isinstance(number, bool)
+
+
 def is_within(number, least, most):
     """Whether it is a whole number from least to most."""
-    # Python counts True and False as 1 and 0; here they are no numbers.
-    if isinstance(number, bool) or not isinstance(number, int):
-        return False
-    return least <= number <= most
+    return is_number(number) and least <= number <= most
+
+
+def is_day(number):
+    """Whether it is a whole number from 0 to 9999."""
+    return is_within(number, 0, MOST_DAY)
+
+
+def is_worth(number):
+    """Whether it is a whole number from 0 to 1000000."""
+    return is_within(number, 0, MOST_WORTH)
 
 
 def is_amount(number):

@@ -13,6 +13,11 @@ BUILTINS = set(
     "ZeroDivisionError ArithmeticError OverflowError RuntimeError NotImplementedError AttributeError StopIteration "
     "NotImplemented object super property staticmethod classmethod".split()
 )
+BUILTIN_METHODS = set(
+    "append clear copy count endswith extend find get index insert isalnum isalpha isdigit islower isspace isupper "
+    "items join keys ljust lower lstrip partition pop remove replace reverse rfind rjust rpartition rsplit rstrip "
+    "setdefault split splitlines startswith strip update upper values zfill bit_length".split()
+)
 SPECIAL_METHODS = set("__init__ __eq__ __repr__ __str__ __len__".split())
 BARRED_WORDS = (
     "type|typing|typing_extensions|enum|Enum|IntEnum|StrEnum|Flag|IntFlag|Generic|Protocol|ABC|ABCMeta|namedtuple|"
@@ -123,6 +128,49 @@ class CodeTest(unittest.TestCase):
             methods |= {part.name for part in node.body if isinstance(part, ast.FunctionDef)}
         stored = {node.attr for name, node in nodes(ast.Attribute) if isinstance(node.ctx, ast.Store)}
         self.assertEqual(methods & stored, set())
+
+    def test_parameters_and_variables_do_not_hide_classes_imports_and_builtins(self):
+        for name, tree in trees().items():
+            barred = set(dir(builtins)) | {part.name for part in tree.body if isinstance(part, ast.ClassDef)}
+            for part in tree.body:
+                if isinstance(part, ast.ImportFrom):
+                    barred |= {alias.asname or alias.name for alias in part.names}
+            for node in ast.walk(tree):
+                if isinstance(node, ast.arg):
+                    self.assertNotIn(node.arg, barred, (name, node.lineno))
+                if isinstance(node, ast.Name) and isinstance(node.ctx, ast.Store):
+                    self.assertNotIn(node.id, barred, (name, node.lineno))
+
+    def test_methods_are_own_ones_or_such_as_may_be_used(self):
+        own = {node.name for name, node in nodes(ast.FunctionDef)}
+        for name, node in nodes(ast.Call):
+            if isinstance(node.func, ast.Attribute):
+                self.assertIn(node.func.attr, own | BUILTIN_METHODS | {"__init__"}, (name, node.lineno))
+
+    def test_no_generators_since_classes_have_their_own_equality(self):
+        self.assertEqual(nodes((ast.GeneratorExp, ast.Yield, ast.YieldFrom)), [])
+
+    def test_no_powers_but_of_written_numbers(self):
+        for name, node in nodes(ast.BinOp):
+            if isinstance(node.op, ast.Pow):
+                self.assertIsInstance(node.right, ast.Constant, (name, node.lineno))
+
+    def test_classes_are_not_passed_on(self):
+        own = {node.name for name, node in nodes(ast.ClassDef)}
+        for name, tree in trees().items():
+            fine = set()
+            for node in ast.walk(tree):
+                if isinstance(node, ast.Call):
+                    fine.add(node.func)
+                    if isinstance(node.func, ast.Name) and node.func.id == "isinstance":
+                        fine |= set(ast.walk(node.args[1]))
+                if isinstance(node, ast.ClassDef):
+                    fine |= set(node.bases)
+                if isinstance(node, ast.ExceptHandler):
+                    fine |= set(ast.walk(node.type))
+            for node in ast.walk(tree):
+                if isinstance(node, ast.Name) and node.id in own:
+                    self.assertIn(node, fine, (name, node.lineno))
 
 
 if __name__ == "__main__":

@@ -4,11 +4,11 @@ import unittest
 
 from callcoin.errors import CoinError, NoAmount, NoMoney, NoName, NoText
 from callcoin.moneys import Money
+from tests.cases import NO_AMOUNTS, CoinCase
 
 STERLING = (("pound", 20), ("shilling", 12), ("penny", 1))
 NAMES = ("a", "b", "c", "d", "e", "f", "g", "h")
 MOST = 10 ** 15
-NO_AMOUNTS = (-1, -240, MOST + 1, 10 ** 16, 10 ** 5000, True, False)
 AMOUNTS = (0, 1, 2, 11, 12, 13, 239, 240, 241, 252, 724, 1000000, MOST - 1, MOST)
 
 
@@ -27,16 +27,7 @@ MONEYS = (
 )
 
 
-class MoneyCase(unittest.TestCase):
-    def refused(self, error, call, *given):
-        """Looks for just this refusal, not for one under it or above it."""
-        with self.subTest(given):
-            with self.assertRaises(CoinError) as caught:
-                call(*given)
-            self.assertIs(type(caught.exception), error)
-
-
-class UnitsTest(MoneyCase):
+class UnitsTest(CoinCase):
     def test_field_units(self):
         self.assertEqual(Money(STERLING).units, STERLING)
         self.assertEqual(Money([("penny", 1)]).units, (("penny", 1),))
@@ -131,7 +122,7 @@ class UnitsTest(MoneyCase):
             self.assertEqual(units, copy)
 
 
-class PartsTest(MoneyCase):
+class PartsTest(CoinCase):
     def test_parts(self):
         money = Money(STERLING)
         rows = ((0, (0, 0, 0)), (1, (0, 0, 1)), (11, (0, 0, 11)), (12, (0, 1, 0)), (239, (0, 19, 11)),
@@ -185,7 +176,7 @@ class PartsTest(MoneyCase):
         self.assertEqual(one.units, STERLING)
 
 
-class TextTest(MoneyCase):
+class TextTest(CoinCase):
     def test_texts(self):
         money = Money(STERLING)
         rows = ((0, "0 penny"), (1, "1 penny"), (12, "1 shilling"), (13, "1 shilling 1 penny"),
@@ -215,7 +206,7 @@ class TextTest(MoneyCase):
                 self.refused(NoAmount, money.text, amount)
 
 
-class AmountTest(MoneyCase):
+class AmountTest(CoinCase):
     def setUp(self):
         self.money = Money(STERLING)
 

@@ -1,8 +1,8 @@
-"""Point 4: names, words, figures and amounts; point 3: what counts as a number."""
+"""Point 4: names, words, figures, days, worths and amounts; point 3: what counts as a number."""
 
 import unittest
 
-from callcoin.names import is_amount, is_figures, is_name, is_within, is_word
+from callcoin.names import is_amount, is_day, is_figures, is_name, is_number, is_within, is_word, is_worth
 
 LETTERS = "abcdefghijklmnopqrstuvwxyz"
 OTHER_SIGNS = [chr(code) for code in range(32, 127) if chr(code) not in LETTERS] + ["\n"]
@@ -91,6 +91,22 @@ class NumberTest(unittest.TestCase):
     def test_truths_are_no_numbers(self):
         self.assertIs(is_within(True, 0, 1), False)
         self.assertIs(is_within(False, 0, 1), False)
+
+        self.assertIs(is_number(True), False)
+        self.assertIs(is_number(False), False)
+
+    def test_numbers_of_any_size(self):
+        for number in (0, 1, -1, 10 ** 5000, -10 ** 5000):
+            self.assertIs(is_number(number), True)
+
+    def test_days_and_worths(self):
+        for asked, most in ((is_day, 9999), (is_worth, 1000000)):
+            for number in (0, 1, most - 1, most):
+                with self.subTest((asked, number)):
+                    self.assertIs(asked(number), True)
+            for number in (-1, most + 1, -most, 10 ** 20, True, False, "made", None):
+                with self.subTest((asked, number)):
+                    self.assertIs(asked(number), False)
 
     def test_amounts(self):
         for number in (0, 1, 10 ** 15 - 1, 10 ** 15):
