@@ -10,6 +10,12 @@ def check_name(text):
         raise NoName("a name is a text of 1 to 8 small letters")
 
 
+def check_names(texts):
+    """Refuses, where one of these is no name."""
+    for text in texts:
+        check_name(text)
+
+
 def check_day(number):
     """Refuses what is no day."""
     if not is_day(number):

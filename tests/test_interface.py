@@ -10,6 +10,9 @@ FUNCTIONS = {
     "termtexts": ("read_term(text)",),
     "forms": ("form(term)", "form_worth(form, calls, kind, case)", "parted(one, other)"),
     "paying": ("sums_below(worths, due)", "least_over(worths, due)"),
+    "backing": ("with_change(mine, theirs, due)",),
+    "judging": ("judged(changers)",),
+    "rounds": ("at_calls(calls, town, kinds, day)", "roads(one, other, kinds)"),
 }
 RULE = ("worth(self, calls, kind, case)", "told(self)", "text(self)")
 CLASSES = {
@@ -29,6 +32,7 @@ CLASSES = {
                           "clip(self, name, weight, lesser, many=1)", "pour(self, other)", "held(self)",
                           "__len__(self)", "__eq__(self, other)", "weight(self)", "worth(self, worths)",
                           "pieces(self, worths)"),
+    ("changers", "Changers"): ("__init__(self, rows)", "goods(self)", "changed(self, stock, number, lots=1)"),
 }
 
 
