@@ -1,7 +1,7 @@
 """Kinds of pieces."""
 
 from callcoin.checks import check_name, check_worth
-from callcoin.errors import NoKinds, NoWeight
+from callcoin.errors import NoKinds, NoName, NoWeight
 from callcoin.names import is_within
 
 MOST_FULL = 1000
@@ -48,3 +48,11 @@ def own_kinds(kinds):
     if len(set(names)) < len(names):
         raise NoKinds("two kinds have one name")
     return own
+
+
+def kind_named(kinds, name):
+    """The one of these kinds that has this name."""
+    for kind in kinds:
+        if kind.name == name:
+            return kind
+    raise NoName("there is no kind of this name here")

@@ -1,8 +1,8 @@
 """Purses: pieces of some kinds, by their weights."""
 
 from callcoin.checks import check_worth
-from callcoin.errors import Lacking, NoKinds, NoMany, NoName, TooMany
-from callcoin.kinds import check_weight, own_kinds
+from callcoin.errors import Lacking, NoKinds, NoMany, TooMany
+from callcoin.kinds import check_weight, kind_named, own_kinds
 from callcoin.names import is_within
 
 MOST_MANY = 1000000
@@ -86,16 +86,9 @@ class Purse:
             raise TooMany("there are more than 12 pieces")
         return [(name, weight, count) for name, weight, many, count in rows for piece in range(many)]
 
-    def kind_of(self, name):
-        """The kind of the purse that has this name."""
-        for kind in self.kinds:
-            if kind.name == name:
-                return kind
-        raise NoName("the purse has no kind of this name")
-
     def check_piece(self, name, weight):
         """Refuses what is no kind of the purse, or no weight of its pieces."""
-        check_weight(weight, self.kind_of(name).full)
+        check_weight(weight, kind_named(self.kinds, name).full)
 
     def check_there(self, name, weight, many):
         """Refuses to go on where fewer pieces are there."""
@@ -117,6 +110,6 @@ class Purse:
             check_worth(worth)
         rows = []
         for name, weight, many in self.held():
-            count = self.kind_of(name).counted(weight, worths.get(name, 0))
+            count = kind_named(self.kinds, name).counted(weight, worths.get(name, 0))
             rows.append((name, weight, many, count))
         return rows

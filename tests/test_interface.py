@@ -13,6 +13,7 @@ FUNCTIONS = {
     "backing": ("with_change(mine, theirs, due)",),
     "judging": ("judged(changers)",),
     "rounds": ("at_calls(calls, town, kinds, day)", "roads(one, other, kinds)"),
+    "desk": ("answered(text)",),
 }
 RULE = ("worth(self, calls, kind, case)", "told(self)", "text(self)")
 CLASSES = {
@@ -33,6 +34,15 @@ CLASSES = {
                           "__len__(self)", "__eq__(self, other)", "weight(self)", "worth(self, worths)",
                           "pieces(self, worths)"),
     ("changers", "Changers"): ("__init__(self, rows)", "goods(self)", "changed(self, stock, number, lots=1)"),
+    ("debts", "Debts"): ("__init__(self, calls, kinds)", "lend(self, town, day, amount, term)",
+                         "pay(self, debt, day, name, weight, many=1)", "counted(self, debt, day=None)",
+                         "left(self, debt, day=None)", "over(self, debt, day=None)", "met(self, debt)",
+                         "payments(self, debt)"),
+    ("house", "House"): ("__init__(self, kinds, people)", "tell(self, day, deed)", "held(self, who, day=None, known=None)",
+                         "there(self, kind, day=None, known=None)", "clipped(self, kind, day=None, known=None)",
+                         "left(self, debt, day=None, known=None)", "over(self, debt, day=None, known=None)",
+                         "owed(self, who, day=None, known=None)", "worth(self, who, town, day, known=None)",
+                         "dead(self, town, day, known=None)"),
 }
 
 
